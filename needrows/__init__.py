@@ -1,0 +1,1 @@
+"""Needrows: which rows of endless streams must be kept."""

@@ -1,0 +1,1 @@
+"""Numbers, conditions, and reasoning about conditions."""

@@ -1,8 +1,12 @@
-"""The examples of the document, as they stand there."""
+"""The examples of the document, as they stand there, and those of README.md."""
 import doctest
+import pathlib
 import unittest
 
+from needrows.ask import logs, questions
 from needrows.base import conditions, numbers, reasoning
+from needrows.cover import regions, tight
+from tests.asked import NAMES
 
 NUMBERS = """
 >>> line = Line(7, 5)
@@ -28,10 +32,44 @@ REASONING = """
 [(('<=', 2, 'x'),), 1, {'x': 3}, True]
 """
 
+QUESTIONS = """
+>>> [STAIRS.streams, STAIRS.columns_of("left"), STAIRS.rest_columns("left"), WITHIN.others("pair"), STAIRS.points]
+[('left', 'right'), ('x', 'y'), ('u', 'v'), ('probe',), ()]
+>>> [LESS({"left": (1,), "right": (2,)}), (LESS & UNLIKE).condition, LESS.with_columns(x="a").condition, str(STAIRS)]
+[True, ('and', ('<', 'x', 'u'), ('!=', 'x', 'u')), ('<', 'a', 'u'), 'question of 2 streams, 4 columns']
+"""
+
+LOGS = """
+>>> log = (("left", (1, 9)), ("right", (5, 9)), ("left", (4, 2)), ("right", (5, 3)))
+>>> [rows_of(STAIRS, "right", log), rings(STAIRS, log), first_ring(STAIRS, log), rest_rings(STAIRS, "left", (1, 9), {"right": (5, 10)})]
+[((5, 3), (5, 9)), True, 2, True]
+>>> list(matches(STAIRS, log))
+[{'left': (4, 2), 'right': (5, 3)}, {'left': (4, 2), 'right': (5, 9)}]
+"""
+
+REGIONS = """
+>>> [reason(WITHIN, "pair", (0, 10), beside=((0, 6), (6, 10))), is_covered(WITHIN, "pair", (0, 10), by=((0, 6), (4, 10)))]
+[{'probe': (6,)}, True]
+>>> [least_cover(UNLIKE, "left", (1,), by=((3,), (2,))), least_cover(WITHIN, "pair", (5, 5)), compared(LESS, "left", (3,), (5,))]
+[((2,), (3,)), (), 'around']
+>>> [is_reason(LESS, "left", (3,), {"right": (number,)}, beside=((5,),)) for number in (3, 4, 6)]
+[False, True, False]
+"""
+
+TIGHT = """
+>>> pieces = ((0, 6), (0, 10), (4, 10))
+>>> [list(tight_parts(WITHIN, "pair", pieces)), is_tight(WITHIN, "pair", pieces[::2]), least_part(WITHIN, "pair", pieces)]
+[[((0, 6), (4, 10)), ((0, 10),)], True, ((0, 10),)]
+>>> [is_part_paper(WITHIN, "pair", pieces, ("part", {(0, 10): {"probe": (5,)}})), loose_row(LESS, "left", ((2,), (5,)))]
+[True, (5,)]
+>>> len(tight_part(UNLIKE, "left", ((3,), (1,), (2,), (2,))))
+2
+"""
+
 
 class Examples(unittest.TestCase):
     def check(self, module, text):
-        test = doctest.DocTestParser().get_doctest(text, dict(vars(module)), module.__name__, None, 0)
+        test = doctest.DocTestParser().get_doctest(text, {**NAMES, **vars(module)}, module.__name__, None, 0)
         told = []
         doctest.DocTestRunner().run(test, out=told.append)
         self.assertEqual("".join(told), "")
@@ -45,6 +83,22 @@ class Examples(unittest.TestCase):
 
     def test_reasoning(self):
         self.check(reasoning, REASONING)
+
+    def test_questions(self):
+        self.check(questions, QUESTIONS)
+
+    def test_logs(self):
+        self.check(logs, LOGS)
+
+    def test_regions(self):
+        self.check(regions, REGIONS)
+
+    def test_tight(self):
+        self.check(tight, TIGHT)
+
+    def test_readme(self):
+        readme = pathlib.Path(__file__).resolve().parent.parent / "README.md"
+        self.check(numbers, readme.read_text(encoding="utf-8").replace("```", ""))
 
 
 if __name__ == "__main__":

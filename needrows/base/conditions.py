@@ -96,6 +96,11 @@ def _parts(condition):
 def columns_of(condition):
     """Return the ascending tuple of the columns of a condition."""
     check_condition(condition)
+    return column_names(condition)
+
+
+def column_names(condition):
+    """Return the ascending tuple of the columns of a checked condition."""
     return tuple(sorted({column for part in _parts(condition) for column in _columns_in(part)}))
 
 
@@ -267,13 +272,23 @@ def renamed(condition, **names):
 def renamed_by(condition, names):
     """Return the condition in which the columns that are keys of a dict have new names, all at once."""
     columns = columns_of(condition)
+    check_renaming(names, columns)
+    return renamed_unchecked(condition, names)
+
+
+def check_renaming(names, known):
+    """Raise an error unless a value is a dict from some known names to new names."""
     if not isinstance(names, dict) or not all([isinstance(old, str) for old in names]):
         raise InvalidOperation("not a dict whose keys are strings")
-    unknown = [old for old in names if old not in columns]
+    unknown = [old for old in names if old not in known]
     if unknown:
         raise UnknownName(min(unknown))
     if not all([is_name(new) for new in names.values()]):
         raise InvalidName("a new name is none")
+
+
+def renamed_unchecked(condition, names):
+    """Return the condition with the new names of a dict; neither is checked."""
     return changed(condition, lambda comparison: _renamed(comparison, names))
 
 

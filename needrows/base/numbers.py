@@ -43,6 +43,19 @@ def compare(one, other):
     return 1 if one > other else 0
 
 
+def count_below(ascending, number):
+    """Return how many of some ascending integers are less than an integer, found by halving."""
+    low = 0
+    high = len(ascending)
+    while low < high:
+        middle = (low + high) // 2
+        if ascending[middle] < number:
+            low = middle + 1
+        else:
+            high = middle
+    return low
+
+
 class Line:
     """A finite set of given integers, which never changes."""
 
@@ -156,18 +169,11 @@ class Line:
         return self._given[place // 2 - 1] + 1
 
     def _place(self, number):
-        """Return the place of an integer, found by halving."""
-        low = 0
-        high = len(self._given)
-        while low < high:
-            middle = (low + high) // 2
-            if self._given[middle] < number:
-                low = middle + 1
-            else:
-                high = middle
-        if low < len(self._given) and self._given[low] == number:
-            return 2 * low + 1
-        return 2 * low
+        """Return the place of an integer."""
+        below = count_below(self._given, number)
+        if below < len(self._given) and self._given[below] == number:
+            return 2 * below + 1
+        return 2 * below
 
     def __or__(self, other):
         if not isinstance(other, Line):

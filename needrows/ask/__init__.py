@@ -1,0 +1,1 @@
+"""Questions, and the logs of rows that come."""

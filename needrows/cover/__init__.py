@@ -1,0 +1,1 @@
+"""Which rows are covered by other rows, and which rows are tight."""

@@ -44,6 +44,11 @@ class Asked:
         self.told = judge(condition, self.columns)
         written = [term for one in comparisons_in(condition) for term in one[1:] if is_whole(term)]
         self.points = tuple(range(min(written), max(written) + 1)) if written else ()
+        self.told_beside = {stream: judge(condition, self.columns_from(stream)) for stream in self.streams}
+
+    def columns_from(self, stream):
+        """The columns of a stream, and then those of the others."""
+        return [*self.streams[stream], *(column for other in self.others(stream) for column in self.streams[other])]
 
     def holds(self, rows):
         """Whether the condition holds with a dict from all streams to rows."""
@@ -51,7 +56,7 @@ class Asked:
         return self.told(*(numbers[column] for column in self.columns))
 
     def rings(self, stream, row, rest):
-        return self.holds({stream: row, **rest})
+        return self.told_beside[stream](*row, *flat(rest))
 
     def others(self, stream):
         return [other for other in self.streams if other != stream]
@@ -76,8 +81,10 @@ class Asked:
 
     def regions(self, stream, rows):
         """For each row the set of the indices of those of the rests near all rows with which it rings."""
-        rests = self.rests(stream, rows)
-        return {row: {at for at, rest in enumerate(rests) if self.rings(stream, row, rest)} for row in rows}
+        told = self.told_beside[stream]
+        near = self.numbers_near(stream, rows)
+        rests = list(itertools.product(near, repeat=self.many_of_rest(stream)))
+        return {row: {at for at, rest in enumerate(rests) if told(*row, *rest)} for row in rows}
 
     def random_row(self, source, stream, low=-2, high=6):
         return tuple(source.randrange(low, high) for _ in self.streams[stream])

@@ -6,6 +6,8 @@ import unittest
 from needrows.ask import logs, questions
 from needrows.base import conditions, numbers, reasoning
 from needrows.cover import regions, tight
+from needrows.few import forget, needs
+from needrows.rises import kinds, standard
 from tests.asked import NAMES
 
 NUMBERS = """
@@ -66,10 +68,44 @@ TIGHT = """
 2
 """
 
+KINDS = """
+>>> [list(kinds(LESS, "left")), number_of_kinds(STAIRS, "left"), number_of_kinds(Question(("<", "x", 3), a=("x",), b=("y",)), "a")]
+[[((), (), (('up', (('x',),)),))], 11, 2]
+>>> stairs = ((0, 20), (4, 16), (8, 12))
+>>> [kind_of(STAIRS, "left", stairs), are_uniform(STAIRS, "left", stairs), kind_of(STAIRS, "left", stairs[::-1])]
+[((), (), (('up', (('x',),)), ('down', (('y',),)))), True, None]
+"""
+
+STANDARD = """
+>>> climb = kind_of(STAIRS, "left", ((0, 20), (4, 16), (8, 12)))
+>>> [standard_rise(STAIRS, "left", climb, 3), spans(STAIRS, "left", climb, ((0, 20), (4, 16), (8, 12)), 1)]
+[((0, 20), (4, 16), (8, 12)), ((4, 4), (16, 16))]
+>>> [is_clear(STAIRS, "left", climb, ((0, 20), (4, 16), (8, 12)), 0, {"right": (5, 17)}), which_ring(STAIRS, "left", ((0, 20), (4, 16), (8, 12)), {"right": (5, 17)})]
+[True, (False, True, False)]
+>>> far = placed_about(STAIRS, "left", climb, {"right": (5, 17)}, 5, 3)
+>>> which_ring(STAIRS, "left", standard_rise(STAIRS, "left", climb, 5), far)
+(False, False, False, True, False)
+"""
+
+NEEDS = """
+>>> [is_need(WITHIN, "pair", ("need", SIDE, {"probe": (10,)})), is_need(WITHIN, "pair", ("need", SIDE, {"probe": (8,)})), list(needs(WITHIN, "pair", SIDE))[0][2]]
+[True, False, {'probe': (9,)}]
+>>> [any_need(LESS, "left"), long_rise(LESS, "left", UP), list(ringing(LESS, "left", UP))[0]]
+[None, ((0,), (4,), (8,), (12,), (16,)), ({'right': (9,)}, 1, None)]
+"""
+
+FORGET = """
+>>> [[one[2:] for one in least_rules(LESS, "left", UP)], [one[2:] for one in least_rules(UNLIKE, "left", UP)], rules(WITHIN, "pair", SIDE), rule_of(WITHIN, "pair", SIDE)]
+[[(1, 0)], [(0, 2), (1, 1), (2, 0)], (), None]
+>>> [cover_of(UNLIKE, "left", ("rule", UP, 1, 1), ((2,), (3,), (70,)), 1), forgotten(LESS, "left", ("rule", UP, 1, 0), ((2,), (3,), (70,)))]
+[((2,), (70,)), (1, 2)]
+"""
+
 
 class Examples(unittest.TestCase):
-    def check(self, module, text):
-        test = doctest.DocTestParser().get_doctest(text, {**NAMES, **vars(module)}, module.__name__, None, 0)
+    def check(self, module, text, more=numbers):
+        names = {**vars(more), **vars(module), **NAMES}
+        test = doctest.DocTestParser().get_doctest(text, names, module.__name__, None, 0)
         told = []
         doctest.DocTestRunner().run(test, out=told.append)
         self.assertEqual("".join(told), "")
@@ -95,6 +131,18 @@ class Examples(unittest.TestCase):
 
     def test_tight(self):
         self.check(tight, TIGHT)
+
+    def test_kinds(self):
+        self.check(kinds, KINDS)
+
+    def test_standard(self):
+        self.check(standard, STANDARD, kinds)
+
+    def test_needs(self):
+        self.check(needs, NEEDS)
+
+    def test_forget(self):
+        self.check(forget, FORGET)
 
     def test_readme(self):
         readme = pathlib.Path(__file__).resolve().parent.parent / "README.md"

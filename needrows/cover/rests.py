@@ -50,9 +50,9 @@ class Rests:
         self._question = question
         self._stream = stream
         self._given = given_numbers(question, rows)
-        columns = question.rest_columns(stream)
-        numbers = [(number,) for number in candidates(self._given, len(columns))]
-        self._choices = Choices([((column,), numbers) for column in columns])
+        self._columns = question.rest_columns(stream)
+        numbers = [(number,) for number in candidates(self._given, len(self._columns))]
+        self._choices = Choices([((column,), numbers) for column in self._columns])
 
     def region(self, row):
         """Return the set of the rests with which a row rings."""
@@ -62,6 +62,20 @@ class Rests:
     def regions(self, rows):
         """Return a dict from the different ones of some rows, ascending, to their regions."""
         return {row: self.region(row) for row in sorted(set(rows))}
+
+    def plain(self):
+        """Return the set of the rests whose integers are a canonical tuple on the line of the rows and the points."""
+        return self._choices.plain(self._given)
+
+    def clear_of(self, spans):
+        """Return the set of the rests none of whose integers lies in one of some spans."""
+        found = self._choices.full
+        for least, greatest in spans:
+            for column in self._columns:
+                below, _ = self._choices.about(column, least)
+                under, level = self._choices.about(column, greatest)
+                found = found & (below | (self._choices.full ^ under ^ level))
+        return found
 
     def rest_at(self, number):
         """Return the rest with a number."""

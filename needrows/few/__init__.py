@@ -1,0 +1,1 @@
+"""Whether few rows of a stream are enough: needs and rules."""

@@ -1,0 +1,1 @@
+"""Rises of rows: their kinds, and the standard rise of each kind."""

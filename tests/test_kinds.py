@@ -28,7 +28,7 @@ def asking(columns, points):
 
 CASES = [
     (asking(columns, points), columns, points)
-    for columns in (("x",), ("x", "y"), ("y", "x"))
+    for columns in (("x",), ("x", "y"), ("price", "cost"))
     for points in ((), (0,), (3,), (1, 2), (0, 1, 2), (0, 1, 2, 3))]
 
 

@@ -1,6 +1,7 @@
 """Rows, entries, logs and rests of a question, and what rings."""
-from needrows.ask.questions import check_question, check_row, check_stream, fits, holds_with
+from needrows.ask.questions import check_question, check_row, check_stream, fits, numbers_in
 from needrows.base.choices import Choices, members
+from needrows.base.conditions import holds_unchecked
 from needrows.errors import InvalidLog, InvalidRest
 
 MOST_ENTRIES = 200
@@ -117,9 +118,16 @@ def rest_rings(question, stream, row, rest):
     """Return whether the row rings with the rest."""
     check_row(question, stream, row)
     check_rest(question, stream, rest)
-    return rings_with(question, stream, row, rest)
+    return told_by(question, stream, (row,), rest)[0]
 
 
-def rings_with(question, stream, row, rest):
-    """Return whether a row rings with a rest; neither is checked."""
-    return holds_with(question, {stream: row, **rest})
+def told_by(question, stream, rows, rest):
+    """Return the list that tells for each of some rows whether it rings with a rest; nothing is checked."""
+    columns = question.columns_of(stream)
+    numbers = numbers_in(question, rest)
+    told = []
+    for row in rows:
+        for column, number in zip(columns, row):
+            numbers[column] = number
+        told.append(holds_unchecked(question.condition, numbers))
+    return told

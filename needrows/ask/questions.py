@@ -1,7 +1,7 @@
 """Questions: streams with their columns, and a condition on one row of each."""
-from needrows.base.conditions import ALWAYS, MOST_COLUMNS, check_condition, check_renaming, column_names
-from needrows.base.conditions import holds_unchecked, is_condition, points_of, renamed_unchecked
-from needrows.base.numbers import are_whole, is_name
+from needrows.base.conditions import ALWAYS, MOST_COLUMNS, check_renaming, checked, holds_unchecked, is_condition
+from needrows.base.conditions import points_in, points_of, renamed_unchecked
+from needrows.base.numbers import are_names, are_whole
 from needrows.errors import InvalidCondition, InvalidName, InvalidOperation, InvalidQuestion, InvalidRow
 from needrows.errors import UnknownName
 
@@ -14,17 +14,17 @@ class Question:
     """Two to four streams with one or two columns each, and a condition; it never changes."""
 
     def __init__(self, condition, **streams):
-        check_condition(condition)
-        _check_streams(condition, streams)
+        comparisons, columns = checked(condition)
+        _check_streams(columns, streams)
         self._condition = condition
         self._table = _ascending(streams)
-        self._points = points_of(condition)
+        self._points = points_in(comparisons)
 
     @classmethod
     def of(cls, condition, streams):
         """Return the question with a dict from streams to the tuples of their columns."""
-        check_condition(condition)
-        _check_streams(condition, streams)
+        _, columns = checked(condition)
+        _check_streams(columns, streams)
         return _question(condition, streams)
 
     @property
@@ -76,12 +76,12 @@ class Question:
             raise InvalidRow("not a dict from all streams to rows")
         if not all([stream in rows and fits(self, stream, rows[stream]) for stream in self._table]):
             raise InvalidRow("not a dict from all streams to rows")
-        return holds_with(self, rows)
+        return holds_unchecked(self._condition, numbers_in(self, rows))
 
     def with_condition(self, condition):
         """Return the question with the same streams and another condition."""
-        check_condition(condition)
-        _check_streams(condition, self._table)
+        _, columns = checked(condition)
+        _check_streams(columns, self._table)
         return _question(condition, self._table)
 
     def with_streams(self, **names):
@@ -161,24 +161,21 @@ def _columns_in(table):
     return [column for columns in table.values() for column in columns]
 
 
-def _check_streams(condition, streams):
-    """Raise an error unless a value is a dict from streams to columns that suits a condition."""
-    if not isinstance(streams, dict):
+def _check_streams(used, streams):
+    """Raise an error unless a value is a dict from streams to columns that suits the columns of a condition."""
+    if not isinstance(streams, dict) or not are_names(streams):
         raise InvalidName("not a dict from names to tuples of names")
-    if not all([is_name(stream) and _are_columns(streams[stream]) for stream in streams]):
-        raise InvalidName("not a dict from names to tuples of one or two names")
-    columns = _columns_in(streams)
-    if not LEAST_STREAMS <= len(streams) <= MOST_STREAMS or len(columns) > MOST_COLUMNS:
+    for columns in streams.values():
+        if not isinstance(columns, tuple) or not 1 <= len(columns) <= MOST_OF_A_STREAM or not are_names(columns):
+            raise InvalidName("not a dict from names to tuples of one or two names")
+    every = _columns_in(streams)
+    if not LEAST_STREAMS <= len(streams) <= MOST_STREAMS or len(every) > MOST_COLUMNS:
         raise InvalidQuestion("too few or too many streams or columns")
-    if len(set(columns)) < len(columns):
+    if len(set(every)) < len(every):
         raise InvalidQuestion("a column stands there twice")
-    if not all([column in columns for column in column_names(condition)]):
-        raise InvalidQuestion("a column of the condition is in no stream")
-
-
-def _are_columns(value):
-    """Whether a value is a tuple of one or two names."""
-    return isinstance(value, tuple) and 1 <= len(value) <= MOST_OF_A_STREAM and all([is_name(one) for one in value])
+    for column in used:
+        if column not in every:
+            raise InvalidQuestion("a column of the condition is in no stream")
 
 
 def check_question(value):
@@ -196,7 +193,7 @@ def check_stream(question, stream):
 
 def fits(question, stream, value):
     """Whether a value is a row of a stream that is there."""
-    return are_whole(value) and len(value) == len(question.columns_of(stream))
+    return are_whole(value) and len(value) == len(question._table[stream])
 
 
 def check_row(question, stream, row):
@@ -213,10 +210,10 @@ def check_rows(question, stream, rows):
         raise InvalidRow("not a tuple of rows of the stream")
 
 
-def holds_with(question, rows):
-    """Return whether the condition of a question holds with a checked dict from all streams to rows."""
+def numbers_in(question, rows):
+    """Return the dict from columns to integers of a checked dict from streams to rows."""
     numbers = {}
     for stream, row in rows.items():
-        for column, number in zip(question.columns_of(stream), row):
+        for column, number in zip(question._table[stream], row):
             numbers[column] = number
-    return holds_unchecked(question.condition, numbers)
+    return numbers

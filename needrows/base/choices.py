@@ -3,21 +3,7 @@
 A set of choices is an integer here, with one binary digit for each choice: so a condition is judged for all
 choices together, by a few operations.
 """
-from needrows.base.conditions import SIGNS
 from needrows.base.numbers import count_below
-
-
-def candidates(given, many):
-    """Return the ascending list of some ascending integers and of so many nearest ones in each of their gaps."""
-    if not given:
-        return list(range(many))
-    found = list(range(given[0] - many, given[0]))
-    for low, high in zip(given, given[1:]):
-        found.append(low)
-        found.extend(list(range(low + 1, min(low + many + 1, high))))
-    last = given[-1]
-    found.extend(list(range(last, last + many + 1)))
-    return found
 
 
 def members(found):
@@ -60,107 +46,101 @@ class Choices:
     """
 
     def __init__(self, parts):
-        """Take a list of pairs of a tuple of columns and an ascending list of rows for them, one or more."""
-        self._parts = parts
-        self._many = 1
-        for _, rows in parts:
-            self._many = self._many * len(rows)
-        self.full = (1 << self._many) - 1
+        """Take a list of pairs of a tuple of columns and an ascending list of rows for them, one row or more."""
+        self._parts = []
+        many = 1
+        for columns, rows in reversed(parts):
+            self._parts.append((columns, rows, many))
+            many = many * len(rows)
+        self._parts.reverse()
+        self._many = many
+        self.full = (1 << many) - 1
         self._scales = {}
         self._orders = {}
 
     def rows_at(self, number):
         """Return the list of the rows that are chosen in the choice with this number."""
-        found = []
-        left = number
-        for _, rows in reversed(self._parts):
-            left, place = divmod(left, len(rows))
-            found.append(rows[place])
-        return found[::-1]
+        return [rows[number // stride % len(rows)] for _, rows, stride in self._parts]
+
+    def numbers_at(self, number):
+        """Return the dict from the columns to the integers that are chosen in the choice with this number."""
+        found = {}
+        for columns, rows, stride in self._parts:
+            for column, chosen in zip(columns, rows[number // stride % len(rows)]):
+                found[column] = chosen
+        return found
 
     def where(self, condition, numbers):
         """Return the set of the choices with which a condition holds, given the integers of its other columns."""
         word = condition[0]
-        if word in SIGNS:
-            return self._where_compared(condition, numbers)
         if word == "and":
             found = self.full
             for inner in condition[1:]:
                 found = found & self.where(inner, numbers)
             return found
         if word == "or":
-            return joined([self.where(inner, numbers) for inner in condition[1:]])
+            found = 0
+            for inner in condition[1:]:
+                found = found | self.where(inner, numbers)
+            return found
         if word == "not":
             return self.full ^ self.where(condition[1], numbers)
-        return self.full if word == "always" else 0
+        if len(condition) == 1:
+            return self.full if word == "always" else 0
+        one = numbers.get(condition[1], condition[1])
+        other = numbers.get(condition[2], condition[2])
+        if word == "<":
+            return self.less(one, other)
+        if word == "<=":
+            return self.full ^ self.less(other, one)
+        unlike = self.less(one, other) | self.less(other, one)
+        return unlike if word == "!=" else self.full ^ unlike
 
-    def _where_compared(self, comparison, numbers):
-        """Return the set of the choices with which a comparison holds."""
-        sign, one, other = comparison
-        less, same = self._order(numbers.get(one, one), numbers.get(other, other))
-        if sign == "<":
-            return less
-        if sign == "<=":
-            return less | same
-        return same if sign == "=" else self.full ^ same
-
-    def _order(self, one, other):
-        """Return the sets of the choices in which one column or integer is less than another, and equal to it."""
+    def less(self, one, other):
+        """Return the set of the choices in which one column or integer is less than another one."""
         if isinstance(one, str):
-            return self._order_of_columns(one, other) if isinstance(other, str) else self.about(one, other)
+            if isinstance(other, str):
+                return self._less_of_columns(one, other)
+            scale, sets = self._scale(one)
+            return sets[count_below(scale, other)]
         if isinstance(other, str):
-            less, same = self.about(other, one)
-            return self.full ^ less ^ same, same
-        return self.full if one < other else 0, self.full if one == other else 0
-
-    def about(self, column, number):
-        """Return the sets of the choices in which a column is less than an integer, and equal to it."""
-        scale, sets = self._scale(column)
-        place = count_below(scale, number)
-        if place < len(scale) and scale[place] == number:
-            return sets[place], sets[place] ^ sets[place + 1]
-        return sets[place], 0
-
-    def _order_of_columns(self, one, other):
-        """Return the sets of the choices in which one column is less than another, and equal to it."""
-        if (one, other) not in self._orders:
             scale, sets = self._scale(other)
-            less = 0
-            same = 0
-            for place, number in enumerate(scale):
-                here = sets[place] ^ sets[place + 1]
-                below, level = self.about(one, number)
-                less = less | (here & below)
-                same = same | (here & level)
-            self._orders[one, other] = (less, same)
+            return self.full ^ sets[count_below(scale, one + 1)]
+        return self.full if one < other else 0
+
+    def _less_of_columns(self, one, other):
+        """Return the set of the choices in which one column is less than another one."""
+        if (one, other) not in self._orders:
+            scale, sets = self._scale(one)
+            found = 0
+            for number, least in zip(scale, sets[1:]):
+                found = found | (least & self.less(number, other))
+            self._orders[one, other] = found
         return self._orders[one, other]
 
     def _scale(self, column):
         """Return the ascending integers of a column, and for each k the set in which it has one of the k least."""
         if column not in self._scales:
-            table = self._sets_by_number(column)
-            scale = sorted(table)
-            sets = [0]
-            for number in scale:
-                sets.append(sets[-1] | table[number])
-            self._scales[column] = (scale, sets)
+            columns, rows, stride = [part for part in self._parts if column in part[0]][0]
+            self._scales[column] = self._made_scale(columns.index(column), rows, stride)
         return self._scales[column]
 
-    def _sets_by_number(self, column):
-        """Return a dict from the integers of a column to the sets of the choices in which it has them."""
-        stride = self._many
-        for columns, rows in self._parts:
-            period = stride
-            stride = period // len(rows)
-            if column in columns:
-                break
-        place = columns.index(column)
-        start = _repeated(period, self._many // period)
-        found = {}
-        for at, row in enumerate(rows):
-            here = ((start << stride) - start) << (at * stride)
-            found[row[place]] = found.get(row[place], 0) | here
-        return found
+    def _made_scale(self, place, rows, stride):
+        """Return what `_scale` does, for the column at a place of some rows that take turns at each stride."""
+        period = stride * len(rows)
+        first = _repeated(period, self._many // period)
+        if len(rows[0]) == 1:
+            return [row[0] for row in rows], [(first << (stride * many)) - first for many in range(len(rows) + 1)]
+        table = {}
+        here = (first << stride) - first
+        for row in rows:
+            table[row[place]] = table.get(row[place], 0) | here
+            here = here << stride
+        scale = sorted(table)
+        sets = [0]
+        for number in scale:
+            sets.append(sets[-1] | table[number])
+        return scale, sets
 
     def plain(self, given):
         """Return the set of the choices that are canonical tuples on the line of some ascending integers.
@@ -168,13 +148,14 @@ class Choices:
         Each part has one column here, and the candidates of the given integers as its rows.
         """
         used = {}
-        for columns, _ in self._parts:
-            scale, sets = self._scale(columns[0])
+        for part in self._parts:
+            scale, sets = self._scale(part[0][0])
             for place, number in enumerate(scale):
                 used[number] = used.get(number, 0) | (sets[place] ^ sets[place + 1])
+        known = {number: True for number in given}
         found = self.full
         for number in used:
             nearer = number + 1 if given and number < given[0] else number - 1
-            if number not in given and nearer not in given and nearer in used:
-                found = found & (self.full ^ used[number] | used[nearer])
+            if number not in known and nearer not in known and nearer in used:
+                found = found & ((self.full ^ used[number]) | used[nearer])
         return found

@@ -1,5 +1,5 @@
 """Conditions: comparisons of columns and written integers, joined by "not", "and" and "or"."""
-from needrows.base.numbers import is_name, is_whole
+from needrows.base.numbers import are_names, is_name, is_whole
 from needrows.errors import InvalidCondition, InvalidName, InvalidOperation, UnknownName
 
 MAX_PARTS = 40
@@ -11,6 +11,7 @@ MOST_JOINED = 6
 ALWAYS = ("always",)
 NEVER = ("never",)
 SIGNS = ("<", "<=", "=", "!=")
+JOINTS = ("and", "or")
 _OPPOSITES = {
     "always": "never", "never": "always", "and": "or", "or": "and",
     "=": "!=", "!=": "=", "<": "<=", "<=": "<",
@@ -19,64 +20,73 @@ _OPPOSITES = {
 
 def is_condition(value):
     """Whether the value is a condition."""
-    # A list of what waits, and no recursion: a value with very many parts is left at the first one too many.
-    waiting = [(value, 1)]
-    columns = {}
-    parts = 0
-    while waiting:
-        part, deep = waiting.pop()
-        parts += 1
-        if parts > MAX_PARTS or deep > MAX_DEEP or not _has_form(part):
-            return False
-        for inner in inner_conditions(part):
-            waiting.append((inner, deep + 1))
-        for column in _columns_in(part):
-            columns[column] = True
-    return len(columns) <= MOST_COLUMNS
-
-
-def _has_form(part):
-    """Whether a value has the form of a condition, whatever stands in the places of inner conditions."""
-    if not isinstance(part, tuple) or not part or not isinstance(part[0], str):
-        return False
-    word = part[0]
-    if word in SIGNS:
-        return len(part) == 3 and _are_terms(part[1], part[2])
-    if word == "not":
-        return len(part) == 2
-    if word in ("and", "or"):
-        return 2 <= len(part) - 1 <= MOST_JOINED
-    return part in (ALWAYS, NEVER)
-
-
-def _are_terms(one, other):
-    """Whether two values are terms of a comparison: columns or written integers, but not two integers."""
-    if is_name(one):
-        return is_name(other) or _is_written(other)
-    return _is_written(one) and is_name(other)
-
-
-def _is_written(value):
-    """Whether the value is a written integer."""
-    return is_whole(value) and 0 <= value <= MAX_WRITTEN
+    comparisons = _comparisons_in(value)
+    return comparisons is not None and _columns_in(comparisons) is not None
 
 
 def check_condition(value):
     """Raise an error unless the value is a condition."""
-    if not is_condition(value):
+    checked(value)
+
+
+def checked(condition):
+    """Return the list of the comparisons of a condition, in any order, and the dict with its columns as keys."""
+    comparisons = _comparisons_in(condition)
+    columns = None if comparisons is None else _columns_in(comparisons)
+    if columns is None:
         raise InvalidCondition("not a condition")
+    return comparisons, columns
+
+
+def _comparisons_in(value):
+    """Return the list of what stands for comparisons in a value with the form of a condition, in any order, or None."""
+    # Level by level, and no recursion: a value with very many parts is left at the first level with too many.
+    found = []
+    parts = 0
+    level = [value]
+    for _ in range(MAX_DEEP):
+        parts = parts + len(level)
+        if parts > MAX_PARTS:
+            return None
+        inner = []
+        for part in level:
+            if not isinstance(part, tuple):
+                return None
+            many = len(part)
+            if many == 3 and part[0] in SIGNS:
+                found.append(part)
+            elif 3 <= many <= MOST_JOINED + 1 and part[0] in JOINTS:
+                inner.extend(part[1:])
+            elif many == 2 and part[0] == "not":
+                inner.append(part[1])
+            elif part != ALWAYS and part != NEVER:
+                return None
+        if not inner:
+            return found
+        level = inner
+    return None
+
+
+def _columns_in(comparisons):
+    """Return a dict with the columns of some comparisons as its keys, or None if one is none, or too many are there."""
+    columns = {}
+    for _, one, other in comparisons:
+        if isinstance(one, str):
+            columns[one] = True
+            if isinstance(other, str):
+                columns[other] = True
+            elif type(other) != int or not 0 <= other <= MAX_WRITTEN:
+                return None
+        elif isinstance(other, str) and type(one) == int and 0 <= one <= MAX_WRITTEN:
+            columns[other] = True
+        else:
+            return None
+    return columns if len(columns) <= MOST_COLUMNS and are_names(columns) else None
 
 
 def inner_conditions(condition):
     """Return the tuple of the conditions that stand directly in a condition."""
     return condition[1:] if condition[0] in ("not", "and", "or") else ()
-
-
-def _columns_in(part):
-    """Return the columns of a comparison; other parts have none of their own."""
-    if part[0] not in SIGNS:
-        return []
-    return [term for term in part[1:] if isinstance(term, str)]
 
 
 def parts_of(condition):
@@ -88,34 +98,32 @@ def parts_of(condition):
 def _parts(condition):
     """Return the list of the parts of a checked condition, in the same order."""
     found = [condition]
-    for inner in inner_conditions(condition):
-        found.extend(_parts(inner))
+    if condition[0] in JOINTS or condition[0] == "not":
+        for inner in condition[1:]:
+            found.extend(_parts(inner))
     return found
 
 
 def columns_of(condition):
     """Return the ascending tuple of the columns of a condition."""
-    check_condition(condition)
-    return column_names(condition)
-
-
-def column_names(condition):
-    """Return the ascending tuple of the columns of a checked condition."""
-    return tuple(sorted({column for part in _parts(condition) for column in _columns_in(part)}))
+    _, columns = checked(condition)
+    return tuple(sorted(columns))
 
 
 def points_of(condition):
     """Return the ascending tuple of the integers from the least to the greatest one that is written."""
-    comparisons = comparisons_of(condition)
-    written = [term for comparison in comparisons for term in comparison[1:] if is_whole(term)]
-    if not written:
-        return ()
-    return tuple(range(min(written), max(written) + 1))
+    comparisons, _ = checked(condition)
+    return points_in(comparisons)
+
+
+def points_in(comparisons):
+    """Return the ascending tuple of the integers from the least to the greatest one in some comparisons."""
+    written = [term for comparison in comparisons for term in comparison[1:] if not isinstance(term, str)]
+    return tuple(range(min(written), max(written) + 1)) if written else ()
 
 
 def comparisons_of(condition):
-    """Return the list of the comparisons of a condition, as often and in the order as they stand in it."""
-    check_condition(condition)
+    """Return the list of the comparisons of a checked condition, as often and in the order as they stand in it."""
     return [part for part in _parts(condition) if part[0] in SIGNS]
 
 
@@ -137,39 +145,52 @@ def holds(condition, **numbers):
 
 def holds_for(condition, numbers):
     """Return whether a condition holds with the integers of a dict for its columns."""
-    columns = columns_of(condition)
-    if not _are_numbers(numbers) or not all([column in numbers for column in columns]):
+    _, columns = checked(condition)
+    if not _are_numbers(numbers, columns):
         raise InvalidOperation("not a dict from names to integers that has all columns")
     return holds_unchecked(condition, numbers)
 
 
-def _are_numbers(value):
-    """Whether the value is a dict from names to integers."""
-    return isinstance(value, dict) and all([is_name(name) and is_whole(value[name]) for name in value])
+def _are_numbers(value, columns):
+    """Whether the value is a dict from names to integers that has all of some columns."""
+    if not isinstance(value, dict):
+        return False
+    for name in value:
+        if not is_whole(value[name]) or name not in columns and not is_name(name):
+            return False
+    for column in columns:
+        if column not in value:
+            return False
+    return True
 
 
 def holds_unchecked(condition, numbers):
     """Return whether a condition holds with the integers of a dict; neither is checked."""
     word = condition[0]
     if word == "and":
-        return all([holds_unchecked(inner, numbers) for inner in condition[1:]])
+        for inner in condition[1:]:
+            if not holds_unchecked(inner, numbers):
+                return False
+        return True
     if word == "or":
-        return any([holds_unchecked(inner, numbers) for inner in condition[1:]])
+        for inner in condition[1:]:
+            if holds_unchecked(inner, numbers):
+                return True
+        return False
     if word == "not":
         return not holds_unchecked(condition[1], numbers)
-    if word in SIGNS:
-        one, other = [numbers.get(term, term) for term in condition[1:]]
-        return _stands(word, one, other)
-    return condition == ALWAYS
+    if len(condition) == 1:
+        return word == "always"
+    return stands(word, numbers.get(condition[1], condition[1]), numbers.get(condition[2], condition[2]))
 
 
-def _stands(sign, one, other):
+def stands(sign, one, other):
     """Return whether a comparison of two integers by a sign is true."""
     if sign == "<":
         return one < other
     if sign == "<=":
         return one <= other
-    return (one == other) == (sign == "=")
+    return one == other if sign == "=" else one != other
 
 
 def without_not(condition):
@@ -207,7 +228,7 @@ def changed(condition, change):
     """Return the condition with `change(comparison)` in the place of each comparison."""
     if condition[0] in SIGNS:
         return change(condition)
-    inner = [changed(one, change) for one in inner_conditions(condition)]
+    inner = [changed(one, change) for one in condition[1:]]
     return (condition[0], *inner)
 
 

@@ -7,12 +7,17 @@ MOST_PLACED = 4
 
 def is_whole(value):
     """Whether the value is an integer; True and False are none."""
-    return isinstance(value, int) and not isinstance(value, bool)
+    return type(value) == int
 
 
 def are_whole(value):
     """Whether the value is a tuple of integers."""
-    return isinstance(value, tuple) and all([is_whole(one) for one in value])
+    if not isinstance(value, tuple):
+        return False
+    for one in value:
+        if type(one) != int:
+            return False
+    return True
 
 
 def check_whole(value):
@@ -29,9 +34,17 @@ def check_all_whole(value):
 
 def is_name(value):
     """Whether the value is a name."""
-    if not isinstance(value, str) or not 1 <= len(value) <= LONGEST_NAME:
+    if not isinstance(value, str) or not value.islower():
         return False
-    return all(["a" <= letter <= "z" for letter in value])
+    return value.isalpha() and value.isascii() and len(value) <= LONGEST_NAME
+
+
+def are_names(values):
+    """Whether all of some values are names."""
+    for value in values:
+        if not is_name(value):
+            return False
+    return True
 
 
 def compare(one, other):
@@ -54,6 +67,60 @@ def count_below(ascending, number):
         else:
             high = middle
     return low
+
+
+def candidates(given, many):
+    """Return the ascending list of some ascending integers and of so many nearest ones in each of their gaps."""
+    if not given:
+        return list(range(many))
+    found = list(range(given[0] - many, given[0]))
+    for low, high in zip(given, given[1:]):
+        found.append(low)
+        found.extend(list(range(low + 1, min(low + many + 1, high))))
+    last = given[-1]
+    found.extend(list(range(last, last + many + 1)))
+    return found
+
+
+def _chains(given, many):
+    """Return a dict from the candidates, ascending, to the lists of those in the same gap that are nearer.
+
+    In each list the nearest one is the first one.
+    """
+    known = {value: True for value in given}
+    chains = {}
+    for value in candidates(given, many):
+        if value in known:
+            chains[value] = []
+        elif given and value < given[0]:
+            chains[value] = list(range(given[0] - 1, value, -1))
+        else:
+            nearest = given[count_below(given, value) - 1] + 1 if given else 0
+            chains[value] = list(range(nearest, value))
+    return chains
+
+
+def _continued(begun, many, chains):
+    """Yield all canonical tuples that begin with some integers and go on with so many more, one or more."""
+    fewer = many - 1
+    for value in _following(begun, many, chains):
+        longer = (*begun, value)
+        if fewer == 0:
+            yield longer
+        else:
+            yield from _continued(longer, fewer, chains)
+
+
+def _following(begun, many, chains):
+    """Return the integers that can stand next, ascending, if so many more make a canonical tuple."""
+    missing = sorted({near for value in begun for near in chains[value] if near not in begun})
+    # Each missing integer must still come; only what is left of the places may reach farther out.
+    spare = many - len(missing)
+    if spare == 0:
+        return missing
+    there = (*begun, *missing)
+    # Fewer than `spare` nearer integers lack: so the one that is so far from the end of the list is there.
+    return [value for value, chain in chains.items() if len(chain) < spare or chain[-spare] in there]
 
 
 class Line:
@@ -97,76 +164,49 @@ class Line:
     def canonical_of(self, values):
         """Return the canonical tuple that is placed alike with the integers in a tuple."""
         check_all_whole(values)
-        placed = {}
-        for value in sorted(set(values)):
-            placed.setdefault(self._place(value), []).append(value)
+        given = self._given
         moved = {}
-        for place, numbers in placed.items():
-            for value, near in zip(numbers, self._nearest(place, len(numbers))):
-                moved[value] = near
+        near = self._first_near(values)
+        passed = 0
+        for value in sorted(set(values)):
+            while passed < len(given) and given[passed] <= value:
+                near = given[passed]
+                passed = passed + 1
+            if passed == 0 or near != value:
+                near = near + 1
+            moved[value] = near
         return tuple([moved[value] for value in values])
+
+    def _first_near(self, values):
+        """Return the integer behind which the canonical ones for some integers begin."""
+        if not self._given:
+            return -1
+        lowest = self._given[0]
+        return lowest - 1 - len({value for value in values if value < lowest})
 
     def are_alike(self, one, other):
         """Return whether two tuples of integers are placed alike."""
-        return self.canonical_of(one) == self.canonical_of(other)
+        check_all_whole(one)
+        check_all_whole(other)
+        before = one + self._given
+        after = other + self._given
+        low = sorted(set(before))
+        high = sorted(set(after))
+        if len(before) != len(after) or len(low) != len(high):
+            return False
+        # They are placed alike if an ascending change of integers that leaves the given ones takes one to the other.
+        change = dict(zip(low, high))
+        return tuple([change[value] for value in before]) == after
 
     def placements(self, many):
         """Yield all canonical tuples of so many integers, ascending."""
         if not is_whole(many) or not 0 <= many <= MOST_PLACED:
             raise InvalidNumber(many)
-        yield from self._continued((), many)
-
-    def _continued(self, begun, many):
-        """Yield all canonical tuples that begin with some integers and go on with so many more."""
         if many == 0:
-            yield begun
-            return
-        fewer = many - 1
-        for value in self._following(begun, many):
-            longer = (*begun, value)
-            yield from self._continued(longer, fewer)
-
-    def _following(self, begun, many):
-        """Return the integers that can stand next, ascending, if so many more make a canonical tuple."""
-        reach = self._reach(begun)
-        nearer = [value for place in sorted(reach) for value in self._nearest(place, reach[place])]
-        missing = [value for value in nearer if value not in begun]
-        # Each missing integer must still come; only what is left of the places may reach farther out.
-        spare = many - len(missing)
-        if spare == 0:
-            return missing
-        places = range(2 * len(self._given) + 1)
-        return [value for place in places for value in self._nearest(place, reach.get(place, 0) + spare)]
-
-    def _reach(self, begun):
-        """Return, for each place of some integers, how many integers lie there up to the farthest of them."""
-        reach = {}
-        for value in begun:
-            place = self._place(value)
-            if place == 0 and self._given:
-                steps = self._given[0] - value
-            else:
-                steps = value - self._first(place, 1) + 1
-            reach[place] = max(steps, reach.get(place, 0))
-        return reach
-
-    def _nearest(self, place, many):
-        """Return so many of the nearest integers of a place, ascending, or all if there are fewer."""
-        room = self.room(place)
-        if room is not None:
-            many = min(many, room)
-        first = self._first(place, many)
-        return list(range(first, first + many))
-
-    def _first(self, place, many):
-        """Return the least of so many nearest integers of a place."""
-        if not self._given:
-            return 0
-        if place == 0:
-            return self._given[0] - many
-        if place % 2 == 1:
-            return self._given[place // 2]
-        return self._given[place // 2 - 1] + 1
+            yield ()
+        else:
+            chains = _chains(self._given, many)
+            yield from _continued((), many, chains)
 
     def _place(self, number):
         """Return the place of an integer."""

@@ -1,5 +1,5 @@
 """Rows that are covered by other rows: their regions, and reasons to keep them."""
-from needrows.ask.logs import is_rest, rings_with
+from needrows.ask.logs import is_rest, told_by
 from needrows.ask.questions import check_row, check_rows, fits
 from needrows.base.choices import joined
 from needrows.base.numbers import Line
@@ -43,9 +43,10 @@ def is_reason(question, stream, row, value, *, beside=()):
 
 def is_reason_beside(question, stream, row, value, others):
     """Return whether a value is a reason of a checked row beside checked others."""
-    if not is_rest(question, stream, value) or not rings_with(question, stream, row, value):
+    if not is_rest(question, stream, value):
         return False
-    return not any([rings_with(question, stream, one, value) for one in others])
+    first, *told = told_by(question, stream, (row, *others), value)
+    return first and True not in told
 
 
 def is_covered(question, stream, row, *, by=()):
@@ -72,7 +73,6 @@ def compared(question, stream, row, other):
     check_row(question, stream, row)
     if not fits(question, stream, other):
         raise InvalidRow("not a row of the stream")
-    check_few(question, stream, (row, other))
     rests = Rests(question, stream, (row, other))
     one = rests.region(row)
     two = rests.region(other)

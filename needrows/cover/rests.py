@@ -1,5 +1,6 @@
 """Rests of a stream: as tuples of integers, and sets of them."""
-from needrows.base.choices import Choices, candidates, first_member
+from needrows.base.choices import Choices, first_member
+from needrows.base.numbers import candidates
 from needrows.errors import TooMany
 
 MOST_ROWS = 12
@@ -72,9 +73,7 @@ class Rests:
         found = self._choices.full
         for least, greatest in spans:
             for column in self._columns:
-                below, _ = self._choices.about(column, least)
-                under, level = self._choices.about(column, greatest)
-                found = found & (below | (self._choices.full ^ under ^ level))
+                found = found & (self._choices.less(column, least) | self._choices.less(greatest, column))
         return found
 
     def rest_at(self, number):

@@ -1,5 +1,5 @@
 """Needs: rests that ring with one row of a rise alone, so that its rows must be kept."""
-from needrows.ask.logs import is_rest, rings_with
+from needrows.ask.logs import is_rest, told_by
 from needrows.ask.questions import check_stream
 from needrows.base.choices import members
 from needrows.cover.rests import Rests
@@ -18,13 +18,10 @@ def is_need(question, stream, value):
 
 def _needs(question, stream, kind, rest):
     """Return whether a kind and a checked rest are a need."""
-    first, middle, third = standard_rows(question, stream, kind, 3)
-    if not rings_with(question, stream, middle, rest):
+    three = standard_rows(question, stream, kind, 3)
+    if told_by(question, stream, three, rest) != [False, True, False]:
         return False
-    for row in (first, third):
-        if rings_with(question, stream, row, rest) or not is_clear_of(question, stream, kind, row, rest):
-            return False
-    return True
+    return all([is_clear_of(question, stream, kind, row, rest) for row in three[::2]])
 
 
 def needs(question, stream, kind):

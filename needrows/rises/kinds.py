@@ -214,7 +214,9 @@ def _span(item, row, places):
     numbers = []
     for group in groups_of(item):
         first = row[places[group[0]]]
-        if not all([row[places[column]] == first for column in group]) or numbers and numbers[-1] >= first:
+        if not all([row[places[column]] == first for column in group]):
+            return None
+        if numbers and numbers[-1] >= first:
             return None
         numbers.append(first)
     return numbers[0], numbers[-1]
@@ -268,10 +270,12 @@ def _likely(moves):
     if len(moves) < 2:
         return [single]
     (number, word, one), (another, other_word, other) = moves
-    if word != other_word or word == STAY_WORD and number != another:
+    if word != other_word:
         return [single]
     if number == another:
         return [(_item(word, ((one, other),)),)]
+    if word == STAY_WORD:
+        return [single]
     low, high = (one, other) if number < another else (other, one)
     return [single, (_item(word, ((low,), (high,))),)]
 

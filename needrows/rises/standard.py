@@ -1,5 +1,5 @@
 """The standard rise of each kind, and how rests lie to the rows of a rise."""
-from needrows.ask.logs import check_rest, rings_with
+from needrows.ask.logs import check_rest, told_by
 from needrows.ask.questions import check_rows
 from needrows.base.numbers import is_whole
 from needrows.cover.rests import numbers_of, rest_of
@@ -113,7 +113,7 @@ def which_ring(question, stream, rows, rest):
     """Return a tuple that tells for each row whether it rings with the rest."""
     check_rows(question, stream, rows)
     check_rest(question, stream, rest)
-    return tuple([rings_with(question, stream, row, rest) for row in rows])
+    return tuple(told_by(question, stream, rows, rest))
 
 
 def placed_about(question, stream, kind, rest, many, index):
@@ -126,7 +126,7 @@ def placed_about(question, stream, kind, rest, many, index):
     for row in (first, third):
         if not is_clear_of(question, stream, kind, row, rest):
             raise InvalidOperation("the rest is not clear of the first and the third row")
-    before = [*[first] * index, middle, *[third] * (many - index - 1)]
+    before = [first] * index + [middle] + [third] * (many - index - 1)
     pairs = [(point, point) for point in question.points]
     for old, new in zip(before, standard_rows(question, stream, kind, many)):
         pairs.extend(list(zip(old, new)))
@@ -151,14 +151,7 @@ def _moved(numbers, pairs):
             high = min([new for old, new in pairs if old > number], default=None)
             gaps.setdefault((low, high), []).append(number)
     for (low, high), inside in gaps.items():
-        first = _first_between(low, high, len(inside))
+        first = high - len(inside) if low is None else low + 1
         for step, number in enumerate(inside):
             moved[number] = first + step
     return moved
-
-
-def _first_between(low, high, many):
-    """Return the least of so many integers side by side, above one integer and below another, if they are there."""
-    if low is not None:
-        return low + 1
-    return 0 if high is None else high - many

@@ -6,7 +6,8 @@ import unittest
 from needrows.ask import logs, questions
 from needrows.base import conditions, numbers, reasoning
 from needrows.cover import regions, tight
-from needrows.few import forget, needs
+from needrows.few import forget, found, needs, papers, pasts
+from needrows.keep import states
 from needrows.rises import kinds, standard
 from tests.asked import NAMES
 
@@ -101,6 +102,34 @@ FORGET = """
 [((2,), (70,)), (1, 2)]
 """
 
+PAPERS = """
+>>> [is_few(LESS, "left"), needy_streams(STAIRS), needy_streams(WITHIN), stream_paper(WITHIN, "probe")[0]]
+[True, ('left', 'right'), ('pair', 'probe'), 'need']
+>>> is_stream_paper(LESS, "left", ("few", (("rule", ((), (), (("up", (("x",),)),)), 1, 0),)))
+True
+>>> [indices for kind, indices in rises_in(LESS, "left", ((1,), (5,), (3,)), least=2)]
+[(0, 1), (0, 2)]
+>>> found_need(WITHIN, "pair", ((0, 3), (5, 8), (10, 13), (15, 18), (20, 23)), 2, {"probe": (11,)})[1]
+((), (), (('up', (('x',), ('y',))),))
+"""
+
+PASTS = """
+>>> past = Past(STAIRS, "left", ((0, 9), (5, 5), (9, 0)), ({"right": (1, 10)}, {"right": (6, 6)}, {"right": (10, 1)}))
+>>> [past.write(5), past.asking(1), past.parting((0, 1), (0, 2)) == past.asking(1)]
+[(('left', (0, 9)), ('left', (9, 0))), (('right', (6, 6)),), True]
+>>> [past.read(lambda log: rings(STAIRS, past.write(5) + log)), past.wrong_at(7, lambda log: rings(STAIRS, past.write(5) + log))]
+[(0, 2), 1]
+"""
+
+STATES = """
+>>> low, wide = State(LESS, left=((3,),)), State(LESS, left=((5,), (3,)))
+>>> [wide.held("left"), are_alike(low, wide), spare_rows(wide), lean(wide) == low, low.rings((("right", (4,)),))]
+[((3,), (5,)), True, (('left', (5,)),), True, True]
+>>> high = wide.without("left", (3,))
+>>> [is_parting_log(low, high, (("right", (4,)),)), are_alike(low, high, marks=(("from", "right", "u", 6),))]
+[True, True]
+"""
+
 
 class Examples(unittest.TestCase):
     def check(self, module, text, more=numbers):
@@ -143,6 +172,15 @@ class Examples(unittest.TestCase):
 
     def test_forget(self):
         self.check(forget, FORGET)
+
+    def test_papers(self):
+        self.check(papers, PAPERS, found)
+
+    def test_pasts(self):
+        self.check(pasts, PASTS, logs)
+
+    def test_states(self):
+        self.check(states, STATES)
 
     def test_readme(self):
         readme = pathlib.Path(__file__).resolve().parent.parent / "README.md"

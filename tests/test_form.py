@@ -27,7 +27,8 @@ AT_ONCE = ("range", "zip", "enumerate", "reversed")
 TAKERS = {"list", "tuple", "dict", "sorted", "sum", "any", "all", "enumerate", "zip", "min", "max"}
 WORDS = re.compile(
     r"\b(typing|typing_extensions|enum|Enum|IntEnum|StrEnum|Flag|IntFlag|Generic|Protocol|ABC|ABCMeta|namedtuple|"
-    r"NamedTuple|TypedDict|TYPE_CHECKING|abstractmethod|register|mro|elements|open|input|law|version_info)\b")
+    r"NamedTuple|TypedDict|TYPE_CHECKING|abstractmethod)\b")
+NOT_USED = set("register mro elements open input law version_info with_traceback add_note".split())
 SPECIAL = set(
     "__init__ __eq__ __str__ __len__ __call__ __contains__ __and__ __or__ __enter__ __exit__ __bool__".split())
 
@@ -158,9 +159,12 @@ class Form(unittest.TestCase):
                 self.assertIn(node.id, BUILTINS, path)
                 self.assertIsInstance(node.ctx, ast.Load, path)
             if node.id == "type":
-                compare = node.above.above
-                self.assertIsInstance(compare, ast.Compare, path)
-                self.assertIn(compare.comparators[0].id, ("int", "str", "bool", "list", "tuple", "dict"), path)
+                above = node.above.above
+                if isinstance(above, ast.Attribute):
+                    self.assertEqual(above.attr, "__name__", path)
+                else:
+                    self.assertIsInstance(above, ast.Compare, path)
+                    self.assertIn(above.comparators[0].id, ("int", "str", "bool", "list", "tuple", "dict"), path)
         for path, node in nodes(ast.Constant):
             self.assertNotIsInstance(node.value, (float, complex, bytes), path)
         for path, node in nodes(ast.ClassDef):
@@ -171,6 +175,32 @@ class Form(unittest.TestCase):
                 self.assertIsNone(WORDS.search(text), path)
             code = "\n".join(line.split("#")[0] for line in ast.unparse(TREES[path]).splitlines())
             self.assertNotIn("_wall", code, path)
+
+    def test_words_that_name_nothing(self):
+        for path, tree in TREES.items():
+            for node in ast.walk(tree):
+                for field in ("id", "arg", "attr", "name"):
+                    name = getattr(node, field, None)
+                    if isinstance(name, str):
+                        self.assertNotIn(name, NOT_USED, path)
+                        self.assertFalse(name.startswith("__") and name not in SPECIAL | {"__name__"}, (path, name))
+
+    def test_properties(self):
+        """No property is called as a method, an attribute or a method of a builtin value is."""
+        properties, methods = set(), set()
+        for _, node in FUNCTIONS:
+            decorators = [one.id for one in node.decorator_list]
+            if isinstance(node.above, ast.ClassDef):
+                (properties if "property" in decorators else methods).add(node.name)
+        stored = {node.attr for _, node in nodes(ast.Attribute) if isinstance(node.ctx, ast.Store)}
+        self.assertFalse(properties & (methods | stored | METHODS))
+        self.assertFalse({name for name in stored if name in methods})
+
+    def test_what_is_compared_and_shown_assigns_nothing(self):
+        for path, node in FUNCTIONS:
+            if node.name in ("__eq__", "__str__", "__len__", "__contains__"):
+                for one in ast.walk(node):
+                    self.assertNotIsInstance(one, (ast.Assign, ast.AugAssign, ast.Lambda), (path, node.name))
 
     def test_parameters_and_variables(self):
         for path, tree in TREES.items():

@@ -16,10 +16,10 @@ def is_row(question, stream, value):
 def is_entry(question, value):
     """Whether the value is an entry: a pair of a stream and a row of it."""
     check_question(question)
-    return _is_entry(question, value)
+    return fits_entry(question, value)
 
 
-def _is_entry(question, value):
+def fits_entry(question, value):
     """Whether a value is an entry of a question that is one."""
     if not isinstance(value, tuple) or len(value) != 2:
         return False
@@ -32,7 +32,7 @@ def is_log(question, value):
     check_question(question)
     if not isinstance(value, tuple) or len(value) > MOST_ENTRIES:
         return False
-    return all([_is_entry(question, entry) for entry in value])
+    return all([fits_entry(question, entry) for entry in value])
 
 
 def check_log(question, log):
@@ -71,6 +71,11 @@ def entries_of(question, stream, rest):
     """Return the log of the rows of a rest, its streams ascending."""
     check_stream(question, stream)
     check_rest(question, stream, rest)
+    return entries_in(question, stream, rest)
+
+
+def entries_in(question, stream, rest):
+    """Return the log of the rows of a checked rest, its streams ascending."""
     return tuple([(other, rest[other]) for other in question.others(stream)])
 
 
@@ -95,6 +100,19 @@ def rings(question, log):
     """Return whether the log rings."""
     for _ in matches(question, log):
         return True
+    return False
+
+
+def rings_among(question, held):
+    """Return whether some rows ring, by a dict from all streams to their ascending rows; nothing is checked."""
+    if not all([held[stream] for stream in held]):
+        return False
+    fewest = min([(len(held[stream]), stream) for stream in held])[1]
+    choices = Choices([(question.columns_of(stream), held[stream]) for stream in held if stream != fewest])
+    columns = question.columns_of(fewest)
+    for row in held[fewest]:
+        if choices.where(question.condition, dict(zip(columns, row))) != 0:
+            return True
     return False
 
 

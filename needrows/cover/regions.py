@@ -20,9 +20,14 @@ def rests_among(question, stream, rows):
 def reason(question, stream, row, *, beside=()):
     """Return any reason of the row beside these rows, or None if it is covered by them."""
     _check_rows_about(question, stream, row, beside)
-    rests = Rests(question, stream, (row, *beside))
+    return found_reason(question, stream, row, beside)
+
+
+def found_reason(question, stream, row, others):
+    """Return any reason of a checked row beside checked others, or None."""
+    rests = Rests(question, stream, (row, *others))
     region = rests.region(row)
-    for one in beside:
+    for one in others:
         region = region & (region ^ rests.region(one))
     return rests.first_of(region) if region else None
 

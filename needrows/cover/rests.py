@@ -8,10 +8,14 @@ MANY_COLUMNS = 3
 MOST_BESIDE_MANY = 6
 
 
+def most_rows(question, stream):
+    """Return how many different rows of a stream are not yet too many."""
+    return MOST_BESIDE_MANY if len(question.rest_columns(stream)) >= MANY_COLUMNS else MOST_ROWS
+
+
 def check_few(question, stream, rows):
     """Raise an error if there are more different rows than the limit."""
-    many_columns = len(question.rest_columns(stream)) >= MANY_COLUMNS
-    limit = MOST_BESIDE_MANY if many_columns else MOST_ROWS
+    limit = most_rows(question, stream)
     if len(set(rows)) > limit:
         raise TooMany(limit)
 
@@ -54,11 +58,14 @@ class Rests:
         self._columns = question.rest_columns(stream)
         numbers = [(number,) for number in candidates(self._given, len(self._columns))]
         self._choices = Choices([((column,), numbers) for column in self._columns])
+        self._regions = {}
 
     def region(self, row):
         """Return the set of the rests with which a row rings."""
-        numbers = dict(zip(self._question.columns_of(self._stream), row))
-        return self._choices.where(self._question.condition, numbers)
+        if row not in self._regions:
+            numbers = dict(zip(self._question.columns_of(self._stream), row))
+            self._regions[row] = self._choices.where(self._question.condition, numbers)
+        return self._regions[row]
 
     def regions(self, rows):
         """Return a dict from the different ones of some rows, ascending, to their regions."""
@@ -91,11 +98,17 @@ def lean_cover(target, regions):
 
     The regions of all rows together contain the set, and so do those of the rows that stay.
     """
-    left = list(regions)
+    behind = [0]
+    for row in reversed(list(regions)):
+        behind.append(behind[-1] | regions[row])
+    left = []
     for row in regions:
-        fewer = [one for one in left if one != row]
-        if is_within(target, [regions[one] for one in fewer]):
-            left = fewer
+        behind.pop()
+        # What the rows that stay and those that are not yet tried leave of the set is what needs this row.
+        missing = target & (target ^ behind[-1])
+        if missing != 0:
+            left.append(row)
+            target = target & (target ^ regions[row])
     return left
 
 

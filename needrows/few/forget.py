@@ -1,7 +1,7 @@
 """Rules: when a row of a rise may be forgotten."""
 from needrows.ask.questions import check_rows, check_stream
 from needrows.base.numbers import is_whole
-from needrows.cover.rests import Rests, is_within
+from needrows.cover.rests import Rests
 from needrows.errors import InvalidOperation
 from needrows.few.needs import long_rows
 from needrows.rises.kinds import check_kind, is_kind
@@ -11,20 +11,37 @@ from needrows.rises.standard import check_index, check_rising, standard_rows
 def is_rule(question, stream, value):
     """Return whether the value is a rule of the stream."""
     check_stream(question, stream)
-    if not isinstance(value, tuple) or len(value) != 4 or value[0] != "rule":
+    if not has_rule_form(question, stream, value):
         return False
     _, kind, front, behind = value
-    if not is_kind(question, stream, kind):
-        return False
-    most = _most_rows(question, stream)
-    if not all([is_whole(number) and 0 <= number <= most for number in (front, behind)]):
-        return False
     rows = standard_rows(question, stream, kind, front + 1 + behind)
-    rests = Rests(question, stream, rows)
-    return is_within(rests.region(rows[front]), [rests.region(row) for row in rows[:front] + rows[front + 1:]])
+    return is_covered_at(Rests(question, stream, rows), rows, front)
 
 
-def _most_rows(question, stream):
+def is_covered_at(rests, rows, index):
+    """Return whether the row at an index is covered by the other rows, by the rests about all of them."""
+    left = rests.region(rows[index])
+    # The nearest rows come first: mostly a few of them are enough.
+    for step in range(1, len(rows)):
+        for place in (index - step, index + step):
+            if left == 0:
+                return True
+            if 0 <= place < len(rows):
+                left = left & (left ^ rests.region(rows[place]))
+    return left == 0
+
+
+def has_rule_form(question, stream, value):
+    """Return whether a value has the form of a rule of a stream that is there, right or not."""
+    if not isinstance(value, tuple) or len(value) != 4 or value[0] != "rule":
+        return False
+    most = most_beside(question, stream)
+    if not all([is_whole(number) and 0 <= number <= most for number in value[2:]]):
+        return False
+    return is_kind(question, stream, value[1])
+
+
+def most_beside(question, stream):
     """Return how many rows a rule can ask for on one side."""
     return len(question.rest_columns(stream)) + 1
 
@@ -32,7 +49,7 @@ def _most_rows(question, stream):
 def rules(question, stream, kind):
     """Return the ascending tuple of all rules of the kind."""
     check_kind(question, stream, kind)
-    most = _most_rows(question, stream)
+    most = most_beside(question, stream)
     found = []
     for front, least in enumerate(_least_behind(question, stream, kind)):
         found.extend([("rule", kind, front, behind) for behind in range(least, most + 1)])
@@ -47,7 +64,7 @@ def _least_behind(question, stream, kind):
     rows = long_rows(question, stream, kind)
     rests = Rests(question, stream, rows)
     regions = [rests.region(row) for row in rows]
-    most = _most_rows(question, stream)
+    most = most_beside(question, stream)
     left = regions[most]
     found = [_least_cover(left, regions[most + 1:])]
     for region in regions[:most][::-1]:
@@ -70,7 +87,7 @@ def least_rules(question, stream, kind):
     """Return the ascending tuple of the least rules of the kind."""
     check_kind(question, stream, kind)
     found = []
-    fewest = _most_rows(question, stream) + 1
+    fewest = most_beside(question, stream) + 1
     for front, behind in enumerate(_least_behind(question, stream, kind)):
         if behind < fewest:
             found.append(("rule", kind, front, behind))

@@ -3,7 +3,8 @@ from needrows.ask.logs import is_rest, told_by
 from needrows.ask.questions import check_stream
 from needrows.base.choices import members
 from needrows.cover.rests import Rests
-from needrows.rises.kinds import check_kind, is_kind, kinds
+from needrows.few.threes import Threes
+from needrows.rises.kinds import check_kind, is_kind
 from needrows.rises.standard import is_clear_of, spans_of, standard_rows
 
 
@@ -48,9 +49,12 @@ def _needing(question, stream, kind, rests, three):
 
 def any_need(question, stream):
     """Return any need of the stream, or None."""
-    for kind in kinds(question, stream):
-        for need in needs(question, stream, kind):
-            return need
+    check_stream(question, stream)
+    threes = Threes(question, stream)
+    for kind in threes.every_kind():
+        found = threes.needing(kind)
+        if found:
+            return ("need", kind, threes.rest_in(found))
     return None
 
 

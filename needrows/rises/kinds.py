@@ -98,10 +98,10 @@ def moving_items(kind):
 def kinds(question, stream):
     """Yield all kinds of the stream, ascending."""
     check_stream(question, stream)
-    yield from _all_kinds(question, stream)
+    yield from all_kinds(question, stream)
 
 
-def _all_kinds(question, stream):
+def all_kinds(question, stream):
     """Return the ascending list of all kinds of a stream."""
     sides = [BELOW_SIDE, ABOVE_SIDE, *question.points] if question.points else [ABOVE_SIDE]
     placings = [{}]
@@ -225,7 +225,7 @@ def _span(item, row, places):
 def kind_of(question, stream, rows):
     """Return the kind of which two or more rows, in this order, are a rise, or None."""
     _check_two_rows(question, stream, rows)
-    return _kind_of(question, stream, rows)
+    return rising_kind(question, stream, rows)
 
 
 def _check_two_rows(question, stream, rows):
@@ -235,8 +235,8 @@ def _check_two_rows(question, stream, rows):
         raise InvalidOperation("fewer than two rows")
 
 
-def _kind_of(question, stream, rows):
-    """Return the kind of which some checked rows are a rise, or None."""
+def rising_kind(question, stream, rows):
+    """Return the kind of which two or more checked rows are a rise, or None."""
     placed = {BELOW_SIDE: [], ABOVE_SIDE: []}
     at = []
     first, second = rows[0], rows[1]
@@ -301,7 +301,7 @@ def rise_of(question, stream, rows):
 def _rise_of(question, stream, rows):
     """Return the pair of a kind and its rise for some checked rows, or None."""
     for ordered in (rows, rows[::-1]):
-        kind = _kind_of(question, stream, ordered)
+        kind = rising_kind(question, stream, ordered)
         if kind is not None:
             return kind, ordered
     return None

@@ -122,24 +122,41 @@ def placed_about(question, stream, kind, rest, many, index):
     check_rest(question, stream, rest)
     _check_many(many)
     check_index(index, many)
-    first, middle, third = standard_rows(question, stream, kind, 3)
-    for row in (first, third):
+    three = standard_rows(question, stream, kind, 3)
+    for row in three[::2]:
         if not is_clear_of(question, stream, kind, row, rest):
             raise InvalidOperation("the rest is not clear of the first and the third row")
-    before = [first] * index + [middle] + [third] * (many - index - 1)
+    return placed_rest(question, stream, rest, three, standard_rows(question, stream, kind, many), index)
+
+
+def placed_rest(question, stream, rest, three, rows, index):
+    """Return a rest that is placed about the row at an index of a standard rise; nothing is checked.
+
+    Beside the rest it is told the standard rise of three rows of the kind, and the one that the index belongs to.
+    """
+    first, middle, third = three
     pairs = [(point, point) for point in question.points]
-    for old, new in zip(before, standard_rows(question, stream, kind, many)):
-        pairs.extend(list(zip(old, new)))
+    pairs.extend(list(zip(middle, rows[index])))
+    # Each column goes one way, if it does not stay: so the nearest and the farthest row bound those between them.
+    if index > 0:
+        pairs.extend(list(zip(first + first, rows[0] + rows[index - 1])))
+    if index + 1 < len(rows):
+        pairs.extend(list(zip(third + third, rows[index + 1] + rows[-1])))
+    return moved_rest(question, stream, rest, pairs)
+
+
+def moved_rest(question, stream, rest, pairs):
+    """Return a rest that compares in itself and with new integers as one does with the old ones; nothing is checked.
+
+    The pairs are those of an old integer and a new one. Between new ones there is room where it is needed.
+    """
     numbers = numbers_of(question, stream, rest)
     moved = _moved(sorted(set(numbers)), pairs)
     return rest_of(question, stream, [moved[number] for number in numbers])
 
 
 def _moved(numbers, pairs):
-    """Return a dict from ascending integers to others, which compare with new integers as they do with the old ones.
-
-    The pairs are those of an old integer and a new one.
-    """
+    """Return a dict from ascending integers to others, which compare with the new integers as they do with the old."""
     moved = {}
     gaps = {}
     for number in numbers:

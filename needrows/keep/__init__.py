@@ -1,0 +1,1 @@
+"""What is kept of the rows that came: states, keepers and counters."""

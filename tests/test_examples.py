@@ -7,8 +7,9 @@ from needrows.ask import logs, questions
 from needrows.base import conditions, numbers, reasoning
 from needrows.cover import regions, tight
 from needrows.few import forget, found, needs, papers, pasts
-from needrows.keep import states
+from needrows.keep import counts, keepers, states
 from needrows.rises import kinds, standard
+from needrows.text import formats, shell
 from tests.asked import NAMES
 
 NUMBERS = """
@@ -130,6 +131,40 @@ STATES = """
 [True, True]
 """
 
+KEEPERS = """
+>>> keeper = Keeper(LESS)
+>>> [keeper.put("left", (5,)), keeper.put("left", (2,)), keeper.put("right", (1,)), keeper.rows, str(keeper)]
+[False, False, False, {'left': ((2,),), 'right': ((1,),)}, 'keeper of 2 rows, 3 came']
+>>> [keeper.would_ring((("left", (0,)),)), keeper.undo(many=2), keeper.rows["left"], keeper.joined(Keeper.of_log(LESS, (("right", (6,)),))).has_rung]
+[True, 1, ((5,),), True]
+"""
+
+COUNTS = """
+>>> came = (("left", (1,)), ("right", (2,)), ("left", (3,)), ("right", (5,)))
+>>> APART = Question(("and", ("<", "x", 2), ("<", 1, "u")), left=("x",), right=("u",))
+>>> [count(LESS, came), count_paper(LESS, "left")[0], is_count_paper(APART, "left", ("even", ((-7,), (2,))))]
+[3, 'spread', True]
+>>> counter = Counter(APART)
+>>> counter.put_all(came)
+>>> [counter.total(), counter.classes("left"), counter.total_with((("left", (0,)),)), str(counter)]
+[2, (((1,), 1), ((3,), 1)), 4, 'counter of 4 entries']
+"""
+
+FORMATS = """
+>>> [format_condition(("or", ("and", ("<", "x", "u"), ("not", ("=", "x", 3))), ("always",))), parse_condition("!(x < u)"), format_rest(STAIRS, "left", {"right": (5, -2)})]
+['(x < u & !(x = 3)) | always', ('not', ('<', 'x', 'u')), 'right 5 -2']
+>>> [format_question(LESS), parse_kind(STAIRS, "left", "- / - / up x < y"), format_log(LESS, (("right", (4,)), ("left", (0,))))]
+['left x; right u; x < u', ((), (), (('up', (('x',), ('y',))),)), 'right 4, left 0']
+"""
+
+SHELL = """
+>>> shell = Shell()
+>>> shell.run_all(("open pay left x; right u; x < u", "put pay left 5, left 2", "held pay", "would pay right 3", "few pay left"))
+('ok', 'quiet', 'left: 2; right: -', 'rung', 'few')
+>>> [shell.run("undo pay 1"), shell.run("held pay"), shell.run("spare pay"), shell.tried("put gone -"), shell.tried("put pay left")]
+['1', 'left: 5; right: -', '-', '! UnknownName', '! ParseError']
+"""
+
 
 class Examples(unittest.TestCase):
     def check(self, module, text, more=numbers):
@@ -181,6 +216,18 @@ class Examples(unittest.TestCase):
 
     def test_states(self):
         self.check(states, STATES)
+
+    def test_keepers(self):
+        self.check(keepers, KEEPERS)
+
+    def test_counts(self):
+        self.check(counts, COUNTS)
+
+    def test_formats(self):
+        self.check(formats, FORMATS)
+
+    def test_shell(self):
+        self.check(shell, SHELL)
 
     def test_readme(self):
         readme = pathlib.Path(__file__).resolve().parent.parent / "README.md"

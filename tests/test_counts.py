@@ -88,6 +88,19 @@ class Counts(unittest.TestCase):
             source.shuffle(turned)
             self.assertEqual(count(asked.question, tuple(turned)), count_in(asked, log))
 
+    def test_three_and_four_streams(self):
+        source = random.Random(516)
+        many = 0
+        for asked in many_asked(517, 60, ((1, 1, 1, 1), (1, 1, 1), (1, 2, 1), (1, 1, 1, 1)), 4):
+            log = random_log(source, asked, 13, 0, 4) + random_log(source, asked, 3, 2, 3)
+            right = count_in(asked, log)
+            many += right > 0
+            self.assertEqual(count(asked.question, log), right)
+            counter = Counter(asked.question)
+            counter.put_all(log[:8])
+            self.assertEqual(counter.total_with(log[8:]), right)
+        self.assertGreater(many, 30)
+
     def test_edges(self):
         self.assertEqual([count(LESS, ()), count(LESS, CAME[:1]), count(LESS, CAME[::2]), count(LESS, CAME[:2])], [0, 0, 0, 1])
         self.assertEqual([count(LESS, CAME[:2] * many) for many in range(5)], [0, 1, 4, 9, 16])
@@ -253,6 +266,25 @@ class Pasts(unittest.TestCase):
                 told.append(right and many > 0)
                 self.assertIs(is_count_past(asked.question, stream, (rows, rests)), right)
         self.assertGreater(min(told.count(True), told.count(False)), 15)
+
+    def test_rests_that_ring_with_rows_side_by_side(self):
+        question = Question(("and", ("<=", "u", "x"), ("<=", "x", "v")), left=("x",), right=("u", "v"))
+        source = random.Random(518)
+        told = []
+        for _ in range(400):
+            many = source.randrange(3, 9)
+            rows = tuple((number,) for number in range(many))
+            rests = [(source.randrange(many), source.randrange(many)) for _ in rows]
+            rests = rests if source.randrange(2) else [(0, number) for number in range(many)]
+            if source.randrange(2):
+                rests[source.randrange(many)] = (0, many)
+            lines = [[low <= number <= high for number in range(many)] for low, high in rests]
+            seen = {tuple(sum(one and ringing for one, ringing in zip(chosen, line)) for line in lines)
+                    for chosen in itertools.product((0, 1), repeat=many)}
+            told.append(len(seen) == 2 ** many)
+            past = (rows, tuple({"right": rest} for rest in rests))
+            self.assertIs(is_count_past(question, "left", past), told[-1])
+        self.assertGreater(min(told.count(True), told.count(False)), 60)
 
     def test_no_pasts(self):
         rows, rests = past = count_past(LESS, "left", SPREAD, 8)

@@ -175,6 +175,16 @@ class Needs(unittest.TestCase):
         for number in (2, 3, 9):
             expect(self, found_need, (LESS, "left", rows, 2, {"right": (number,)}), {}, False, InvalidOperation, None, number)
 
+    def test_a_rest_that_rings_with_one_other_row(self):
+        question = Question(("or", ("=", "x", "u"), ("=", "x", "v")), left=("x",), right=("u", "v"))
+        rows, up = tuple((number,) for number in range(0, 18, 2)), ((), (), (("up", (("x",),)),))
+        for other in range(-1, 19):
+            rest = {"right": (8, other)}
+            if other in range(0, 18, 2) and other != 8:
+                expect(self, found_need, (question, "left", rows, 4, rest), {}, False, InvalidOperation, None, rest)
+            else:
+                self.check(question, "left", rows, 4, rest, up, ())
+
     def test_what_is_returned_is_new(self):
         found = found_need(WITHIN, "pair", PIECES, 2, MIDDLE)
         found[2].clear()

@@ -312,7 +312,8 @@ class Deeds(unittest.TestCase):
         more = keeper.twin()
         more.put("left", (2,))
         other = Keeper.of_log(LESS, (("left", (2,)), ("right", (0,)), ("right", (-1,))))
-        turned = Keeper.of_log(UNLIKE, (("left", (2,)), ("right", (1,))))
+        turned = Keeper.of_log(LESS.with_condition(("<=", "x", "u")), LOG)
+        self.assertEqual([turned.rows, turned.came, turned.has_rung], [keeper.rows, keeper.came, keeper.has_rung])
         for value in (*EVERY, more, other, turned, Keeper(LESS), keeper.checkpoint(), keeper.rows):
             self.assertFalse(keeper == value)
             self.assertTrue(keeper != value)

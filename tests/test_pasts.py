@@ -293,6 +293,8 @@ class Used(unittest.TestCase):
                       Past(turned, "left", ROWS, RESTS), (ROWS, RESTS)):
             self.assertFalse(PAST == value)
             self.assertTrue(PAST != value)
+        one, two = (Past(LESS, "left", ((number,),), ({"right": (5,)},)) for number in (1, 2))
+        self.assertNotEqual(one, two)
         both = Question(("and", ("<", "x", "u"), ("<", "u", "x")), left=("x",), right=("u",))
         self.assertNotEqual(Past(both, "left", (), ()), Past(both, "right", (), ()))
 

@@ -40,12 +40,6 @@ def stream_paper(question, stream):
 
 def is_stream_paper(question, stream, value):
     """Return whether the value is a stream paper."""
-    check_stream(question, stream)
-    return _is_stream_paper(question, stream, value)
-
-
-def _is_stream_paper(question, stream, value):
-    """Return whether a value is a stream paper of a stream that is there."""
     if is_need(question, stream, value):
         return True
     return has_few_form(question, stream, value) and _are_rules(question, stream, value[1])
@@ -82,6 +76,6 @@ def is_question_paper(question, value):
     if not isinstance(value, dict) or len(value) != len(question.streams):
         return False
     for stream in value:
-        if stream not in question or not _is_stream_paper(question, stream, value[stream]):
+        if stream not in question or not is_stream_paper(question, stream, value[stream]):
             return False
     return True

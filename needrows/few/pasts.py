@@ -24,7 +24,7 @@ class Past:
         self._question = question
         self._stream = stream
         self._rows = rows
-        self._rests = _copied(question, stream, rests)
+        self._rests = _new_rests(question, stream, rests)
 
     @classmethod
     def of_need(cls, question, stream, need, many):
@@ -70,7 +70,7 @@ class Past:
     @property
     def rests(self):
         """The tuple of the rests, one for each row."""
-        return _copied(self._question, self._stream, self._rests)
+        return _new_rests(self._question, self._stream, self._rests)
 
     def only(self, *indices):
         """Return the past of these indices, in this order."""
@@ -166,7 +166,7 @@ def check_rests(question, stream, rests):
         raise InvalidRest("not a tuple of rests of the stream")
 
 
-def _copied(question, stream, rests):
+def _new_rests(question, stream, rests):
     """Return the tuple of new dicts of some rests, their streams ascending."""
     others = question.others(stream)
     return tuple([{other: rest[other] for other in others} for rest in rests])

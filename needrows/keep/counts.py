@@ -35,20 +35,20 @@ def _with_log(numbers, log):
 
 def _ways(question, numbers):
     """Return the number of ways to choose a match, by a dict from all streams to dicts from rows to their numbers."""
-    longest = max([(len(numbers[stream]), stream) for stream in numbers])[1]
-    others = [stream for stream in numbers if stream != longest]
-    if not all([numbers[stream] for stream in numbers]):
+    fewest = min([(len(numbers[stream]), stream) for stream in numbers])[1]
+    if not numbers[fewest]:
         return 0
+    others = [stream for stream in numbers if stream != fewest]
     choices = Choices([(question.columns_of(stream), sorted(numbers[stream])) for stream in others])
     digits = choices.full.bit_length()
     # The digits of a set begin with the greatest number of a choice, so the rows are turned round.
     tables = [[numbers[stream][row] for row in sorted(numbers[stream], reverse=True)] for stream in others]
     total = 0
     kept = {}
-    for row in numbers[longest]:
-        found = choices.where(question.condition, dict(zip(question.columns_of(longest), row)))
+    for row in numbers[fewest]:
+        found = choices.where(question.condition, dict(zip(question.columns_of(fewest), row)))
         if found != 0:
-            total = total + numbers[longest][row] * _weight(f"{found:b}".zfill(digits), tables, kept)
+            total = total + numbers[fewest][row] * _weight(f"{found:b}".zfill(digits), tables, kept)
     return total
 
 
@@ -171,13 +171,13 @@ def is_count_past(question, stream, value):
     rows, rests = value
     if not isinstance(rows, tuple) or not isinstance(rests, tuple) or len(rows) > MOST_PAST or len(rests) != len(rows):
         return False
-    if not all([fits(question, stream, row) for row in rows]) or len(set(rows)) < len(rows):
+    if not all([fits(question, stream, row) for row in rows]):
         return False
     return all([is_rest(question, stream, rest) for rest in rests]) and _are_apart(question, stream, rows, rests)
 
 
 def _are_apart(question, stream, rows, rests):
-    """Return whether each two different sets of at most eight rows have unlike counts."""
+    """Return whether each two sets of at most eight rows have unlike counts; so equal rows are not apart."""
     told = [told_by(question, stream, rows, rest) for rest in rests]
     # The counts of a set are one integer, with four binary digits for each rest.
     sums = [0]

@@ -14,13 +14,13 @@ class State:
     def __init__(self, question, **rows):
         check_question(question)
         self._question = question
-        self._rows = _table(question, rows)
+        self._rows = _held_table(question, rows)
 
     @classmethod
     def of(cls, question, rows):
         """Return the state with a dict from streams to the tuples of their rows."""
         check_question(question)
-        return made_state(question, _table(question, rows))
+        return made_state(question, _held_table(question, rows))
 
     @property
     def question(self):
@@ -86,7 +86,7 @@ def made_state(question, table):
     return made
 
 
-def _table(question, value):
+def _held_table(question, value):
     """Return the dict from all streams to ascending rows for one from streams to rows, or raise an error."""
     if not isinstance(value, dict) or not all([stream in question for stream in value]):
         raise InvalidState("not a dict from streams to tuples of rows")

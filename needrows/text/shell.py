@@ -13,68 +13,68 @@ MAX_KEEPERS = 10
 NO_NAMES = "-"
 
 
-def _opened(keepers, name, text):
+def _open_keeper(keepers, name, text):
     """Put a keeper of a question under a new name."""
     keepers[name] = Keeper(parse_question(text))
     return "ok"
 
 
-def _copied(keepers, name, new):
+def _copy_keeper(keepers, name, new):
     """Put a twin of a keeper under a new name."""
     keepers[new] = keepers[name].twin()
     return "ok"
 
 
-def _joined(keepers, name, other, new):
+def _join_keepers(keepers, name, other, new):
     """Put the keeper joined from two others under a new name."""
     keepers[new] = keepers[name].joined(keepers[other])
     return "ok"
 
 
-def _closed(keepers, name):
+def _close_keeper(keepers, name):
     """Leave out a keeper."""
     del keepers[name]
     return "ok"
 
 
-def _put(keepers, name, text):
+def _put_log(keepers, name, text):
     """Give the entries of a log to a keeper."""
     keeper = keepers[name]
-    return _ringing(keeper.put_all(parse_log(keeper.question, text)))
+    return _word_for(keeper.put_all(parse_log(keeper.question, text)))
 
 
-def _ringing(told):
+def _word_for(told):
     """Return the word for whether a keeper has rung, or would."""
     return "rung" if told else "quiet"
 
 
-def _undone(keepers, name, digits):
+def _undo_some(keepers, name, digits):
     """Take back the last entries of a keeper."""
     return str(keepers[name].undo(many=int(digits)))
 
 
-def _names(keepers):
+def _tell_names(keepers):
     """Return the names of all keepers."""
     return " ".join(sorted(keepers)) if keepers else NO_NAMES
 
 
-def _question(keepers, name):
+def _tell_question(keepers, name):
     """Return the text of the question of a keeper."""
     return format_question(keepers[name].question)
 
 
-def _held(keepers, name):
+def _tell_held(keepers, name):
     """Return the text of the state of the held rows of a keeper."""
     return format_state(keepers[name].checkpoint())
 
 
-def _would(keepers, name, text):
+def _tell_would(keepers, name, text):
     """Return whether a keeper would have rung behind a log."""
     keeper = keepers[name]
-    return _ringing(keeper.would_ring(parse_log(keeper.question, text)))
+    return _word_for(keeper.would_ring(parse_log(keeper.question, text)))
 
 
-def _reason(keepers, name, text):
+def _tell_reason(keepers, name, text):
     """Return the text of a reason of a held row of a keeper."""
     keeper = keepers[name]
     log = parse_log(keeper.question, text)
@@ -84,24 +84,24 @@ def _reason(keepers, name, text):
     return format_rest(keeper.question, stream, keeper.reason(stream, row))
 
 
-def _few(keepers, name, stream):
+def _tell_few(keepers, name, stream):
     """Return whether few rows of a stream are enough, or there are needs."""
     return "few" if is_few(keepers[name].question, stream) else "need"
 
 
-def _paper(keepers, name, stream):
+def _tell_paper(keepers, name, stream):
     """Return the text of a stream paper."""
     question = keepers[name].question
     return format_paper(question, stream, stream_paper(question, stream))
 
 
-def _spare(keepers, name):
+def _tell_spare(keepers, name):
     """Return the text of the spare rows of a keeper as a log."""
     keeper = keepers[name]
     return format_log(keeper.question, spare_rows(keeper.checkpoint()))
 
 
-def _part(keepers, name, other):
+def _tell_part(keepers, name, other):
     """Return the text of a log that parts the states of two keepers."""
     keeper = keepers[name]
     log = parting_log(keeper.checkpoint(), keepers[other].checkpoint())
@@ -117,9 +117,10 @@ _FORMS = {
     "spare": ("old",), "part": ("old", "old"),
 }
 _ACTIONS = {
-    "open": _opened, "copy": _copied, "join": _joined, "close": _closed, "put": _put, "undo": _undone,
-    "names": _names, "question": _question, "held": _held, "would": _would, "reason": _reason, "few": _few,
-    "paper": _paper, "spare": _spare, "part": _part,
+    "open": _open_keeper, "copy": _copy_keeper, "join": _join_keepers, "close": _close_keeper,
+    "put": _put_log, "undo": _undo_some, "names": _tell_names, "question": _tell_question, "held": _tell_held,
+    "would": _tell_would, "reason": _tell_reason, "few": _tell_few, "paper": _tell_paper,
+    "spare": _tell_spare, "part": _tell_part,
 }
 _LOGGED = ("open", "copy", "join", "close", "put", "undo")
 
@@ -131,12 +132,12 @@ def _words_of(line):
         raise InvalidCommand("not a command")
     form = _FORMS[first]
     words = line.split(" ", len(form)) if "text" in form else line.split(" ")
-    if len(words) != 1 + len(form) or not all([_fits(part, word) for part, word in zip(form, words[1:])]):
+    if len(words) != 1 + len(form) or not all([_can_stand(part, word) for part, word in zip(form, words[1:])]):
         raise InvalidCommand("not of the form of a command")
     return words
 
 
-def _fits(part, word):
+def _can_stand(part, word):
     """Return whether a word can stand for a part of a command."""
     if part == "text":
         return word != ""
@@ -194,7 +195,8 @@ class Shell:
         try:
             return self.run(line)
         except (RowsError, InvalidNumber, UnknownName, TooMany, NothingToUndo) as error:
-            return f"! {type(error).__name__}"
+            name = type(error).__name__
+            return f"! {name}"
 
     @property
     def names(self):

@@ -1,4 +1,5 @@
 """[0.16], [15.1], [15.2] and what the document says of needrows.keep.keepers."""
+import itertools
 import random
 import unittest
 
@@ -16,6 +17,7 @@ from tests.asked import (
     DEEP, EVERY, LESS, NO_QUESTIONS, SHAPES, STAIRS, UNLIKE, WIDE, WITHIN, check_wrong, expect, many_asked, no_rows,
     no_streams)
 from tests.helpers import FAR, is_whole
+from tests.test_states import Held
 
 LOG = (("left", (5,)), ("left", (2,)), ("right", (1,)))
 NO_LOGS = tuple(value for value in EVERY if value not in ((), (("left", (3,)), ("right", (2,))))) + (
@@ -118,6 +120,22 @@ class Keeping(unittest.TestCase):
             for _ in range(12):
                 keeper, memory = self.deed(keeper, memory, source)
                 self.check(keeper, memory, source)
+
+    def test_all_later_logs(self):
+        """By all logs that can come with integers near the rows that came and the points, one entry of a stream."""
+        source = random.Random(410)
+        forgotten = 0
+        for asked in many_asked(411, 40, ((1, 1), (2, 1), (1, 2), (1, 1, 1), (2, 2)), 4):
+            log = self.log(asked, source, 5)
+            keeper = Keeper.of_log(asked.question, log)
+            keeper.put_all(log[:1])
+            keeper.undo()
+            whole = State.of(asked.question, {}).with_log(log)
+            forgotten += len(whole) - len(keeper)
+            held = Held(asked, (whole,), ())
+            for later in itertools.islice(held.logs(), 0, None, 3):
+                self.assertIs(keeper.would_ring(later), held.rings(whole.rows, later))
+        self.assertGreater(forgotten, 40)
 
     def test_as_if_all_rows_were_kept(self):
         """[0.16]: of the rows that a keeper forgets none can change an answer: the states are alike."""

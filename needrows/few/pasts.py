@@ -1,6 +1,6 @@
 """Pasts: rows that can be read out of whatever kept them."""
 from needrows.ask.logs import entries_in, is_rest
-from needrows.ask.questions import check_rows, check_stream, fits, numbers_in
+from needrows.ask.questions import check_rows, fits, numbers_in
 from needrows.base.choices import Choices
 from needrows.base.numbers import is_whole
 from needrows.cover.rests import Rests, check_few, lone_rests
@@ -29,7 +29,6 @@ class Past:
     @classmethod
     def of_need(cls, question, stream, need, many):
         """Return the past that a need gives, with so many rows."""
-        check_stream(question, stream)
         if not is_need(question, stream, need):
             raise InvalidOperation("not a need of the stream")
         if not is_whole(many) or not 0 <= many <= MAX_PAST:
